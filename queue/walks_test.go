@@ -1,0 +1,76 @@
+package queue_test
+
+import (
+	"testing"
+
+	"thole/api"
+)
+
+// calls are a thread's, one behind the other.
+func calls(l ...api.Op) []api.Op { return l }
+
+// walked is what a walk goes through: calls of one object, the threads that do their first ones alone ahead of it, and what may befall all.
+type walked struct {
+	name     string
+	o        api.Object
+	alone    []int
+	out      outside
+	programs [][]api.Op
+}
+
+// through goes through all of them: each run that may come is a history that may have been, nobody is trapped, and no wakeup is lost.
+func through(t *testing.T, l []walked) {
+	t.Helper()
+	for _, c := range l {
+		t.Run(c.name, func(t *testing.T) {
+			t.Parallel()
+			r := begin(t, []api.Object{c.o}, c.programs...)
+			r.alone(t, c.alone...)
+			if n, quiet := walk(t, r, c.out); n < 50 || quiet < 1 {
+				t.Errorf("%d ways to stand, %d of them quiet, tell too little", n, quiet)
+			}
+		})
+	}
+}
+
+// Two or three threads whose calls are on together, from the beginning on.
+func TestTogether(t *testing.T) {
+	late, pair := within(1, toLock), calls(toLock, toUnlock)
+	through(t, []walked{
+		{"lock", aLock, nil, outside{breaks: 1, wakes: 2}, [][]api.Op{pair, pair}},
+		{"lock twice", aLock, nil, outside{}, [][]api.Op{{toLock, toLock, toUnlock, toUnlock}, {toLock, toUnlock, toLock, toUnlock}}},
+		{"fair lock", fair(aLock), nil, outside{wakes: 1}, [][]api.Op{pair, pair}},
+		{"late or broken", aLock, nil, outside{1, 1, 1}, [][]api.Op{pair, {breaks(late), toUnlock}}},
+		{"three, one late", aLock, nil, outside{ticks: 1}, [][]api.Op{pair, {late}, {toLock}}},
+		{"signal", aLock, nil, outside{wakes: 1}, [][]api.Op{{toLock, toWait, toUnlock}, {toLock, toSignal, toUnlock}}},
+		{"signal or late", aLock, nil, outside{ticks: 1}, [][]api.Op{{toLock, within(1, toWait), toUnlock}, {toLock, toSignal, toUnlock}}},
+		{"signal or broken", aLock, nil, outside{breaks: 1}, [][]api.Op{{toLock, breaks(toWait), toUnlock}, {toLock, toSignal, toUnlock}}},
+		{"read or write", aRW, nil, outside{1, 1, 0}, [][]api.Op{{breaks(within(1, toRead)), toUnread}, {toWrite, toUnwrite}}},
+		{"write or read", fair(aRW), nil, outside{1, 1, 0}, [][]api.Op{{toRead, toUnread}, {within(1, toWrite), toUnwrite}}},
+		{"permits", aSema(0), nil, outside{ticks: 1}, [][]api.Op{{within(1, toAcquire(1))}, {toAcquire(1)}, {toRelease(1)}}},
+		{"latch", api.Object{Kind: api.Latch, N: 2}, nil, outside{ticks: 1}, [][]api.Op{{within(1, toAwait)}, {toAwait}, {toDown, toDown}}},
+	})
+}
+
+// Threads that stand in the queue, of which some give up, while the object is freed, or asked for anew.
+func TestInTheQueue(t *testing.T) {
+	late, pair := calls(within(1, toLock)), calls(toLock, toUnlock)
+	through(t, []walked{
+		{"first two late", aLock, []int{0, 1, 2, 3}, outside{ticks: 1}, [][]api.Op{pair, late, late, {toLock}}},
+		{"first three late", aLock, []int{0, 1, 2, 3, 4}, outside{ticks: 1}, [][]api.Op{{toLock}, late, late, late, {toLock}}},
+		{"middle ones late", aLock, []int{0, 1, 2, 3, 4}, outside{ticks: 1}, [][]api.Op{pair, {toLock}, late, late, {toLock}}},
+		{"last ones late", aLock, []int{0, 1, 2, 3}, outside{ticks: 1}, [][]api.Op{pair, {toLock}, late, late}},
+		{"last one late", aLock, []int{0, 1, 2}, outside{ticks: 1}, [][]api.Op{{toLock}, {toLock}, late, {toLock}}},
+		{"fair, first two late", fair(aLock), []int{0, 1, 2, 3}, outside{ticks: 1}, [][]api.Op{pair, late, late, {toLock}}},
+		{"fair, one more", fair(aLock), []int{0, 1}, outside{}, [][]api.Op{pair, pair, pair}},
+		{"one more", aLock, []int{0, 1}, outside{breaks: 1}, [][]api.Op{pair, {breaks(toLock), toUnlock}, {toLock}}},
+		{"writer late", aRW, []int{0, 1, 2, 3}, outside{ticks: 1}, [][]api.Op{{toWrite, toUnwrite}, {toRead}, {within(1, toWrite)}, {toRead}}},
+		{"readers late", aRW, []int{0, 1, 2, 3}, outside{ticks: 1}, [][]api.Op{{toWrite, toUnwrite}, {within(1, toRead)}, {within(1, toRead)}, {toRead}}},
+		{"writer behind readers", aRW, []int{0, 1, 2}, outside{}, [][]api.Op{{toRead, toUnread}, {toWrite, toUnwrite}, {toWrite}}},
+		{"reader by the way", aRW, []int{0, 1}, outside{}, [][]api.Op{{toRead, toUnread}, {toWrite, toUnwrite}, {toRead, toUnread}}},
+		{"two that release", aSema(0), []int{0, 1}, outside{}, [][]api.Op{{toAcquire(1)}, {toAcquire(1)}, {toRelease(1)}, {toRelease(1)}}},
+		{"two that release, one late", aSema(0), []int{0, 1}, outside{ticks: 1}, [][]api.Op{{within(1, toAcquire(1))}, {toAcquire(1)}, {toRelease(1)}, {toRelease(1)}}},
+		{"two that release, one broken", fair(aSema(0)), []int{0, 1}, outside{breaks: 1}, [][]api.Op{{breaks(toAcquire(1))}, {toAcquire(2)}, {toRelease(1)}, {toRelease(2)}}},
+		{"latch of three", api.Object{Kind: api.Latch, N: 2}, []int{0, 1, 2}, outside{ticks: 1}, [][]api.Op{{toAwait}, {within(1, toAwait)}, {toAwait}, {toDown}, {toDown}}},
+	})
+}
