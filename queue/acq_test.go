@@ -14,6 +14,7 @@ const forever = api.Forever
 // Calls, and objects, in short.
 var (
 	toLock    = api.Op{Kind: api.OpLock, Wait: forever}
+	toTry     = api.Op{Kind: api.OpTry}
 	toUnlock  = api.Op{Kind: api.OpUnlock}
 	toRead    = api.Op{Kind: api.OpRead, Wait: forever}
 	toUnread  = api.Op{Kind: api.OpUnread}

@@ -49,7 +49,7 @@ func (r *run) picks(t *testing.T, c *rand.Rand, n int) {
 
 // kinds are calls of each kind of object.
 var kinds = map[int][]int{
-	api.Lock:  {api.OpLock, api.OpLock, api.OpUnlock, api.OpUnlock, api.OpUnlock, api.OpWait, api.OpSignal},
+	api.Lock:  {api.OpLock, api.OpLock, api.OpTry, api.OpUnlock, api.OpUnlock, api.OpUnlock, api.OpWait, api.OpSignal},
 	api.Sema:  {api.OpAcquire, api.OpRelease},
 	api.Latch: {api.OpAwait, api.OpDown},
 	api.RW:    {api.OpRead, api.OpRead, api.OpUnread, api.OpUnread, api.OpWrite, api.OpUnwrite},
@@ -103,7 +103,7 @@ func TestByChance(t *testing.T) {
 			}
 		}
 	}
-	for _, v := range []int{api.Good, api.Broken, api.Late, api.Monitor} {
+	for _, v := range []int{api.Good, api.Bad, api.Broken, api.Late, api.Monitor} {
 		if results[v] < 500 {
 			t.Errorf("%d calls that came to %d tell too little", results[v], v)
 		}

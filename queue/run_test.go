@@ -10,6 +10,7 @@ import (
 	"thole/asm"
 	"thole/cell"
 	"thole/clock"
+	"thole/lock"
 	"thole/micro"
 	"thole/model"
 	"thole/permit"
@@ -19,7 +20,7 @@ import (
 
 // entries are where calls begin, by their kinds.
 var entries = map[int]string{
-	api.OpLock: "op.lock", api.OpUnlock: "op.unlock", api.OpAcquire: "op.acquire", api.OpRelease: "op.release", api.OpAwait: "op.await", api.OpDown: "op.down",
+	api.OpLock: "op.lock", api.OpTry: "op.try", api.OpUnlock: "op.unlock", api.OpAcquire: "op.acquire", api.OpRelease: "op.release", api.OpAwait: "op.await", api.OpDown: "op.down",
 	api.OpRead: "op.read", api.OpUnread: "op.unread", api.OpWrite: "op.write", api.OpUnwrite: "op.unwrite", api.OpWait: "op.wait", api.OpSignal: "op.signal",
 }
 
@@ -52,7 +53,7 @@ type run struct {
 // begin is a run of a script, nothing of which is done.
 func begin(t *testing.T, objects []api.Object, programs ...[]api.Op) *run {
 	t.Helper()
-	code, labels, err := asm.Assemble(queue.Code(), lockTries, semaTries, rwTries, condTries)
+	code, labels, err := asm.Assemble(queue.Code(), lock.Code(), failed, semaTries, rwTries, condTries)
 	if err != nil {
 		t.Fatal(err)
 	}
@@ -169,7 +170,10 @@ func (r *run) call(t *testing.T, i int) {
 		t.Fatal(err)
 	}
 	asked, breaks := int64(o.N), int64(0)
-	if o.Kind == api.OpAcquire {
+	switch o.Kind {
+	case api.OpLock, api.OpTry:
+		asked = 1
+	case api.OpAcquire:
 		asked = -asked
 	}
 	if o.Breaks {

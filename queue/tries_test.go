@@ -1,79 +1,17 @@
 package queue_test
 
-// This file has tries and entries that are as short as can be, to hold the queue's routines against: layers 13 to 17 have those of the program.
+// This file has tries and entries of layers that aren't built yet, as short as can be, to hold the queue's routines against.
 
-// lockTries are those of a Lock: state how often it is held.
-const lockTries = `
-lock.tryfair:
-self r2
-addi r2 r2 1
-ld r3 r0 3
-jeq r3 r2 lock.own
-mov r6 r0
-mov r7 r1
-call queue.pred
-jne r0 r15 lock.no
-mov r0 r6
-mov r1 r7
-jmp lock.free.take
-lock.try:
-self r2
-addi r2 r2 1
-ld r3 r0 3
-jeq r3 r2 lock.own
-lock.free.take:
-mov r3 r15
-mov r4 r1
-cas r3 r0 2
-jne r5 r14 lock.no
-mark 1 r1
-st r2 r0 3
-mov r0 r14
+// failed is how tries and entries end that come to nothing.
+const failed = `
+test.no:
+mov r0 r15
 ret
-lock.own:
-ld r3 r0 2
-set r4 1000
-jeq r3 r4 lock.many
-addi r3 r3 1
-st r3 r0 2
-mark 1 r14
-mov r0 r14
-ret
-lock.many:
+test.many:
 mark 7 r15
 set r0 2
 ret
-lock.no:
-mov r0 r15
-ret
-
-op.lock:
-set r14 1
-set r15 0
-mov r1 r14
-mov r4 r15
-call queue.acq
-done r0
-op.unlock:
-set r14 1
-set r15 0
-self r2
-addi r2 r2 1
-ld r3 r0 3
-jne r3 r2 op.monitor
-ld r3 r0 2
-addi r3 r3 -1
-jne r3 r15 op.unlock.less
-st r15 r0 3
-st r15 r0 2
-mark 3 r15
-call queue.rel
-done r15
-op.unlock.less:
-st r3 r0 2
-mark 3 r15
-done r15
-op.monitor:
+test.monitor:
 mark 6 r15
 set r0 4
 done r0
@@ -85,13 +23,13 @@ sema.tryfair:
 mov r6 r0
 mov r7 r1
 call queue.pred
-jne r0 r15 lock.no
+jne r0 r15 test.no
 mov r0 r6
 mov r1 r7
 sema.try:
 ld r3 r0 2
 add r4 r3 r1
-jlt r4 r15 lock.no
+jlt r4 r15 test.no
 cas r3 r0 2
 jne r5 r14 sema.try
 mark 1 r1
@@ -100,7 +38,7 @@ mov r1 r4
 ret
 latch.try:
 ld r3 r0 2
-jne r3 r15 lock.no
+jne r3 r15 test.no
 mark 1 r15
 mov r0 r14
 ret
@@ -154,7 +92,7 @@ ld r3 r0 3
 jeq r3 r2 rw.more
 mov r6 r0
 call queue.pred
-jne r0 r15 lock.no
+jne r0 r15 test.no
 mov r0 r6
 jmp rw.take
 rw.trywrite:
@@ -166,7 +104,7 @@ rw.take:
 mov r3 r15
 addi r4 r15 -1
 cas r3 r0 2
-jne r5 r14 lock.no
+jne r5 r14 test.no
 mark 1 r14
 st r2 r0 3
 st r14 r0 14
@@ -175,7 +113,7 @@ ret
 rw.more:
 ld r3 r0 14
 set r4 1000
-jeq r3 r4 lock.many
+jeq r3 r4 test.many
 addi r3 r3 1
 st r3 r0 14
 mark 1 r14
@@ -186,7 +124,7 @@ ld r3 r0 2
 jne r3 r15 rw.tryread
 mov r6 r0
 call queue.pred
-jne r0 r15 lock.no
+jne r0 r15 test.no
 mov r0 r6
 rw.tryread:
 ld r3 r0 2
@@ -199,7 +137,7 @@ rw.tryread.held:
 self r2
 addi r2 r2 1
 ld r4 r0 3
-jne r4 r2 lock.no
+jne r4 r2 test.no
 addi r4 r3 -1
 rw.tryread.take:
 cas r3 r0 2
@@ -263,7 +201,7 @@ set r15 0
 self r2
 addi r2 r2 1
 ld r3 r0 3
-jne r3 r2 op.monitor
+jne r3 r2 test.monitor
 ld r3 r0 14
 addi r3 r3 -1
 st r3 r0 14
@@ -295,7 +233,7 @@ set r15 0
 self r4
 addi r4 r4 1
 ld r5 r0 3
-jne r5 r4 op.monitor
+jne r5 r4 test.monitor
 mov r11 r0
 ld r12 r11 2
 alloc r13 6
@@ -369,7 +307,7 @@ set r15 0
 self r4
 addi r4 r4 1
 ld r5 r0 3
-jne r5 r4 op.monitor
+jne r5 r4 test.monitor
 op.signal.next:
 ld r5 r0 14
 jeq r5 r15 op.signal.none

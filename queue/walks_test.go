@@ -35,11 +35,14 @@ func through(t *testing.T, l []walked) {
 
 // Two or three threads whose calls are on together, from the beginning on.
 func TestTogether(t *testing.T) {
-	late, pair := within(1, toLock), calls(toLock, toUnlock)
+	late, pair, tried := within(1, toLock), calls(toLock, toUnlock), calls(toTry, toUnlock)
 	through(t, []walked{
 		{"lock", aLock, nil, outside{breaks: 1, wakes: 2}, [][]api.Op{pair, pair}},
 		{"lock twice", aLock, nil, outside{}, [][]api.Op{{toLock, toLock, toUnlock, toUnlock}, {toLock, toUnlock, toLock, toUnlock}}},
 		{"fair lock", fair(aLock), nil, outside{wakes: 1}, [][]api.Op{pair, pair}},
+		{"tries", aLock, nil, outside{}, [][]api.Op{tried, tried, tried}},
+		{"lock or try", aLock, nil, outside{breaks: 1, wakes: 1}, [][]api.Op{pair, {toTry, toTry, toUnlock, toUnlock}}},
+		{"fair lock or try", fair(aLock), nil, outside{}, [][]api.Op{pair, pair, {toTry}}},
 		{"late or broken", aLock, nil, outside{1, 1, 1}, [][]api.Op{pair, {breaks(late), toUnlock}}},
 		{"three, one late", aLock, nil, outside{ticks: 1}, [][]api.Op{pair, {late}, {toLock}}},
 		{"signal", aLock, nil, outside{wakes: 1}, [][]api.Op{{toLock, toWait, toUnlock}, {toLock, toSignal, toUnlock}}},
@@ -54,7 +57,7 @@ func TestTogether(t *testing.T) {
 
 // Threads that stand in the queue, of which some give up, while the object is freed, or asked for anew.
 func TestInTheQueue(t *testing.T) {
-	late, pair := calls(within(1, toLock)), calls(toLock, toUnlock)
+	late, pair, tried := calls(within(1, toLock)), calls(toLock, toUnlock), calls(toTry, toUnlock)
 	through(t, []walked{
 		{"first two late", aLock, []int{0, 1, 2, 3}, outside{ticks: 1}, [][]api.Op{pair, late, late, {toLock}}},
 		{"first three late", aLock, []int{0, 1, 2, 3, 4}, outside{ticks: 1}, [][]api.Op{{toLock}, late, late, late, {toLock}}},
@@ -63,6 +66,9 @@ func TestInTheQueue(t *testing.T) {
 		{"last one late", aLock, []int{0, 1, 2}, outside{ticks: 1}, [][]api.Op{{toLock}, {toLock}, late, {toLock}}},
 		{"fair, first two late", fair(aLock), []int{0, 1, 2, 3}, outside{ticks: 1}, [][]api.Op{pair, late, late, {toLock}}},
 		{"fair, one more", fair(aLock), []int{0, 1}, outside{}, [][]api.Op{pair, pair, pair}},
+		{"try by the way", aLock, []int{0, 1}, outside{ticks: 1}, [][]api.Op{pair, late, tried}},
+		{"fair, try by the way", fair(aLock), []int{0, 1}, outside{}, [][]api.Op{pair, pair, tried}},
+		{"fair, try of one in the queue", fair(aLock), []int{0, 1, 2}, outside{breaks: 1}, [][]api.Op{pair, {breaks(toLock), toTry, toUnlock}, pair}},
 		{"one more", aLock, []int{0, 1}, outside{breaks: 1}, [][]api.Op{pair, {breaks(toLock), toUnlock}, {toLock}}},
 		{"writer late", aRW, []int{0, 1, 2, 3}, outside{ticks: 1}, [][]api.Op{{toWrite, toUnwrite}, {toRead}, {within(1, toWrite)}, {toRead}}},
 		{"readers late", aRW, []int{0, 1, 2, 3}, outside{ticks: 1}, [][]api.Op{{toWrite, toUnwrite}, {within(1, toRead)}, {within(1, toRead)}, {toRead}}},
