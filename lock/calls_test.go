@@ -2,7 +2,6 @@ package lock_test
 
 import (
 	"math/rand"
-	"slices"
 	"testing"
 
 	"thole/api"
@@ -23,9 +22,9 @@ var (
 func TestLockAndUnlock(t *testing.T) {
 	for _, fair := range []bool{false, true} {
 		d := opens(t, fair)
-		d.is(d.calls(0, toLock), api.Good, note(api.MkTake, 1))
+		d.Is(d.Calls(0, toLock), api.Good, note(api.MkTake, 1))
 		d.at(stand{1, 1})
-		d.is(d.calls(0, toUnlock), api.Good, note(api.MkFree, 0))
+		d.Is(d.Calls(0, toUnlock), api.Good, note(api.MkFree, 0))
 		d.at(stand{})
 		d.held()
 	}
@@ -35,23 +34,23 @@ func TestLockAndUnlock(t *testing.T) {
 func TestOfAnother(t *testing.T) {
 	for _, fair := range []bool{false, true} {
 		d := opens(t, fair)
-		d.is(d.calls(4, toUnlock), api.Monitor, note(api.MkMonitor, 0))
-		d.is(d.calls(2, toLock), api.Good, note(api.MkTake, 1))
-		d.is(d.calls(2, toLock), api.Good, note(api.MkTake, 1))
-		d.is(d.calls(4, toTake), api.Late, note(api.MkQuit, 0))
-		d.is(d.calls(4, api.Op{Kind: api.OpLock, Breaks: true}), api.Late, note(api.MkQuit, 0))
-		d.is(d.calls(4, toTry), api.Bad, note(api.MkFail, 0))
-		d.is(d.calls(4, toUnlock), api.Monitor, note(api.MkMonitor, 0))
-		d.interrupts(4)
-		d.is(d.calls(4, toBreak), api.Broken, note(api.MkQuit, 0))
-		d.fine(d.p.Tick(api.MaxWait))
-		d.is(d.calls(4, toTake), api.Late, note(api.MkQuit, 0))
+		d.Is(d.Calls(4, toUnlock), api.Monitor, note(api.MkMonitor, 0))
+		d.Is(d.Calls(2, toLock), api.Good, note(api.MkTake, 1))
+		d.Is(d.Calls(2, toLock), api.Good, note(api.MkTake, 1))
+		d.Is(d.Calls(4, toTake), api.Late, note(api.MkQuit, 0))
+		d.Is(d.Calls(4, api.Op{Kind: api.OpLock, Breaks: true}), api.Late, note(api.MkQuit, 0))
+		d.Is(d.Calls(4, toTry), api.Bad, note(api.MkFail, 0))
+		d.Is(d.Calls(4, toUnlock), api.Monitor, note(api.MkMonitor, 0))
+		d.Interrupts(4)
+		d.Is(d.Calls(4, toBreak), api.Broken, note(api.MkQuit, 0))
+		d.Fine(d.P.Tick(api.MaxWait))
+		d.Is(d.Calls(4, toTake), api.Late, note(api.MkQuit, 0))
 		d.at(stand{3, 2})
-		d.is(d.calls(2, toUnlock), api.Good, note(api.MkFree, 0))
-		d.is(d.calls(4, toTry), api.Bad, note(api.MkFail, 0))
-		d.is(d.calls(2, toUnlock), api.Good, note(api.MkFree, 0))
-		d.is(d.calls(2, toUnlock), api.Monitor, note(api.MkMonitor, 0))
-		d.is(d.calls(4, toTry), api.Good, note(api.MkTake, 1))
+		d.Is(d.Calls(2, toUnlock), api.Good, note(api.MkFree, 0))
+		d.Is(d.Calls(4, toTry), api.Bad, note(api.MkFail, 0))
+		d.Is(d.Calls(2, toUnlock), api.Good, note(api.MkFree, 0))
+		d.Is(d.Calls(2, toUnlock), api.Monitor, note(api.MkMonitor, 0))
+		d.Is(d.Calls(4, toTry), api.Good, note(api.MkTake, 1))
 		d.held()
 	}
 }
@@ -61,10 +60,10 @@ func TestAtOnce(t *testing.T) {
 	for _, fair := range []bool{false, true} {
 		for _, wait := range []int64{api.Forever, 0, 1, api.MaxWait} {
 			d := opens(t, fair)
-			d.fine(d.p.Tick(17))
+			d.Fine(d.P.Tick(17))
 			for _, breaks := range []bool{false, true, false} {
-				d.is(d.calls(7, api.Op{Kind: api.OpLock, Wait: wait, Breaks: breaks}), api.Good, note(api.MkTake, 1))
-				d.is(d.calls(7, toTry), api.Good, note(api.MkTake, 1))
+				d.Is(d.Calls(7, api.Op{Kind: api.OpLock, Wait: wait, Breaks: breaks}), api.Good, note(api.MkTake, 1))
+				d.Is(d.Calls(7, toTry), api.Good, note(api.MkTake, 1))
 			}
 			d.at(stand{8, 6})
 			d.held()
@@ -76,20 +75,20 @@ func TestAtOnce(t *testing.T) {
 func TestManyHolds(t *testing.T) {
 	d := opens(t, false)
 	for i := range api.MaxCount {
-		d.is(d.calls(1, []api.Op{toLock, toTry}[i%2]), api.Good, note(api.MkTake, 1))
+		d.Is(d.Calls(1, []api.Op{toLock, toTry}[i%2]), api.Good, note(api.MkTake, 1))
 	}
 	for _, o := range []api.Op{toLock, toTake, toBreak, toTry} {
-		d.is(d.calls(1, o), api.Over, note(api.MkOver, 0))
+		d.Is(d.Calls(1, o), api.Over, note(api.MkOver, 0))
 		d.at(stand{2, api.MaxCount})
 	}
-	d.is(d.calls(0, toTry), api.Bad, note(api.MkFail, 0))
+	d.Is(d.Calls(0, toTry), api.Bad, note(api.MkFail, 0))
 	for i := range int64(api.MaxCount) {
 		d.at(stand{2, api.MaxCount - i})
-		d.is(d.calls(1, toUnlock), api.Good, note(api.MkFree, 0))
+		d.Is(d.Calls(1, toUnlock), api.Good, note(api.MkFree, 0))
 	}
 	d.at(stand{})
-	d.is(d.calls(1, toUnlock), api.Monitor, note(api.MkMonitor, 0))
-	d.is(d.calls(0, toTry), api.Good, note(api.MkTake, 1))
+	d.Is(d.Calls(1, toUnlock), api.Monitor, note(api.MkMonitor, 0))
+	d.Is(d.Calls(0, toTry), api.Good, note(api.MkTake, 1))
 }
 
 // A fair Lock of nobody with another one in its queue: a lock is Late, for that one goes first; a try isn't Bad, for nobody has it. Of one that isn't fair a lock is Good.
@@ -106,19 +105,19 @@ func TestOthersInTheQueue(t *testing.T) {
 		{false, toTry, api.Good, note(api.MkTake, 1)},
 	} {
 		d := opens(t, c.fair)
-		d.calls(0, toLock)
-		d.is(d.calls(1, toLock), parked)
-		d.is(d.calls(0, toTake), api.Good, note(api.MkTake, 1))
-		d.calls(0, toUnlock)
-		d.calls(0, toUnlock)
+		d.Calls(0, toLock)
+		d.Is(d.Calls(1, toLock), parked)
+		d.Is(d.Calls(0, toTake), api.Good, note(api.MkTake, 1))
+		d.Calls(0, toUnlock)
+		d.Calls(0, toUnlock)
 		d.at(stand{})
-		d.is(d.calls(2, c.o), c.want, c.mark)
+		d.Is(d.Calls(2, c.o), c.want, c.mark)
 		if c.want == api.Late {
-			d.is(d.goes(1), api.Good, note(api.MkTake, 1))
+			d.Is(d.Goes(1), api.Good, note(api.MkTake, 1))
 		} else {
-			d.is(d.goes(1), parked)
-			d.is(d.calls(2, toUnlock), api.Good, note(api.MkFree, 0))
-			d.is(d.goes(1), api.Good, note(api.MkTake, 1))
+			d.Is(d.Goes(1), parked)
+			d.Is(d.Calls(2, toUnlock), api.Good, note(api.MkFree, 0))
+			d.Is(d.Goes(1), api.Good, note(api.MkTake, 1))
 		}
 		d.held()
 	}
@@ -128,31 +127,19 @@ func TestOthersInTheQueue(t *testing.T) {
 func TestUnlockUnparks(t *testing.T) {
 	for _, fair := range []bool{false, true} {
 		d, last, l := opens(t, fair), 5, []int{3, 6, 0}
-		d.calls(last, toLock)
+		d.Calls(last, toLock)
 		for _, i := range l {
-			d.is(d.calls(i, toLock), parked)
+			d.Is(d.Calls(i, toLock), parked)
 		}
-		d.parks(l...)
+		d.Parks(l...)
 		for k, i := range l {
-			d.is(d.calls(last, toUnlock), api.Good, note(api.MkFree, 0))
-			d.parks(l[k+1:]...)
-			d.is(d.goes(i), api.Good, note(api.MkTake, 1))
-			d.parks(l[k+1:]...)
+			d.Is(d.Calls(last, toUnlock), api.Good, note(api.MkFree, 0))
+			d.Parks(l[k+1:]...)
+			d.Is(d.Goes(i), api.Good, note(api.MkTake, 1))
+			d.Parks(l[k+1:]...)
 			last = i
 		}
 		d.held()
-	}
-}
-
-// parks tells a fault if others than these threads park.
-func (d *desk) parks(want ...int) {
-	d.t.Helper()
-	for i := range api.MaxThreads {
-		x, err := d.p.At(i)
-		d.fine(err)
-		if x.Blocked != slices.Contains(want, i) {
-			d.t.Errorf("thread %d parks: %v; those that should are %v", i, x.Blocked, want)
-		}
 	}
 }
 
@@ -165,14 +152,14 @@ func TestRowsOfCalls(t *testing.T) {
 			i, x := r.Intn(threads), d.stands()
 			o := []api.Op{toTake, toLock, toBreak, toTry, toUnlock}[r.Intn(5)]
 			want, then := d.comes(x, i, o)
-			if want.v == api.Broken {
-				d.interrupts(i)
+			if want.V == api.Broken {
+				d.Interrupts(i)
 			}
-			results[want.v]++
-			d.is(d.calls(i, o), want.v, want.marks...)
+			results[want.V]++
+			d.Is(d.Calls(i, o), want.V, want.Marks...)
 			d.at(then)
-			d.fine(d.p.Tick(r.Int63n(3)))
-			if want.v == parked {
+			d.Fine(d.P.Tick(r.Int63n(3)))
+			if want.V == parked {
 				break
 			}
 		}
@@ -186,23 +173,23 @@ func TestRowsOfCalls(t *testing.T) {
 }
 
 // comes is what a call comes to, and how the Lock stands then. One that breaks is interrupted, where it would wait.
-func (d *desk) comes(x stand, thread int, o api.Op) (came, stand) {
+func (d lockDesk) comes(x stand, thread int, o api.Op) (came, stand) {
 	if o == toUnlock {
 		a, then := freed(x, thread)
-		return came{[]int64{api.Good, api.Good, api.Monitor}[a.v], a.marks}, then
+		return came{V: []int64{api.Good, api.Good, api.Monitor}[a.V], Marks: a.Marks}, then
 	}
 	a, then := tried(x, thread, 1)
 	switch {
-	case a.v > 0:
-		return came{[]int64{api.Bad, api.Good, api.Over}[a.v], a.marks}, then
+	case a.V > 0:
+		return came{V: []int64{api.Bad, api.Good, api.Over}[a.V], Marks: a.Marks}, then
 	case o == toTry:
-		return came{api.Bad, []api.Note{note(api.MkFail, 0)}}, then
+		return came{V: api.Bad, Marks: []api.Note{note(api.MkFail, 0)}}, then
 	case o == toLock:
-		return came{v: parked}, then
+		return came{V: parked}, then
 	case o == toBreak:
-		return came{api.Broken, []api.Note{note(api.MkQuit, 0)}}, then
+		return came{V: api.Broken, Marks: []api.Note{note(api.MkQuit, 0)}}, then
 	}
-	return came{api.Late, []api.Note{note(api.MkQuit, 0)}}, then
+	return came{V: api.Late, Marks: []api.Note{note(api.MkQuit, 0)}}, then
 }
 
 // A deadline that was due long ago is due.
@@ -210,8 +197,7 @@ func TestDueLongAgo(t *testing.T) {
 	for _, until := range []int64{0, 1, 8, 9} {
 		d := opens(t, until%2 == 0)
 		d.sets(stand{2, 1})
-		d.fine(d.p.Tick(9))
-		x, _ := d.steps(0, d.enters("op.lock", until, 0, 5))
-		d.is(x, api.Late, note(api.MkQuit, 0))
+		d.Fine(d.P.Tick(9))
+		d.Is(d.CallsUntil(0, toTake, until), api.Late, note(api.MkQuit, 0))
 	}
 }

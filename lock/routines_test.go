@@ -27,13 +27,13 @@ func tried(x stand, thread int, holds int64) (came, stand) {
 	own := int64(thread + 1)
 	switch {
 	case x.owner == 0:
-		return came{1, []api.Note{note(api.MkTake, holds)}}, stand{own, holds}
+		return came{V: 1, Marks: []api.Note{note(api.MkTake, holds)}}, stand{own, holds}
 	case x.owner != own:
-		return came{0, nil}, x
+		return came{V: 0}, x
 	case x.holds == api.MaxCount:
-		return came{2, []api.Note{note(api.MkOver, 0)}}, x
+		return came{V: 2, Marks: []api.Note{note(api.MkOver, 0)}}, x
 	}
-	return came{1, []api.Note{note(api.MkTake, 1)}}, stand{own, x.holds + 1}
+	return came{V: 1, Marks: []api.Note{note(api.MkTake, 1)}}, stand{own, x.holds + 1}
 }
 
 // freed is what lock.free comes to, and how the Lock stands then.
@@ -41,25 +41,11 @@ func freed(x stand, thread int) (came, stand) {
 	done := []api.Note{note(api.MkFree, 0)}
 	switch {
 	case x.owner != int64(thread+1):
-		return came{2, []api.Note{note(api.MkMonitor, 0)}}, x
+		return came{V: 2, Marks: []api.Note{note(api.MkMonitor, 0)}}, x
 	case x.holds == 1:
-		return came{1, done}, stand{}
+		return came{V: 1, Marks: done}, stand{}
 	}
-	return came{0, done}, stand{x.owner, x.holds - 1}
-}
-
-// only tells a fault if cells other than the Lock's state and owner are changed, or are new.
-func (d *desk) only(before []int64) {
-	d.t.Helper()
-	after := d.cells(1, d.a.Len())
-	for i := range after {
-		if at := int64(i + 1); at == d.object+2 || at == d.object+3 {
-			continue
-		}
-		if i >= len(before) || before[i] != after[i] {
-			d.t.Errorf("the cell %d from the Lock on is changed to %d", int64(i+1)-d.object, after[i])
-		}
-	}
+	return came{V: 0, Marks: done}, stand{x.owner, x.holds - 1}
 }
 
 // P13.2: try, and tryfair of one in whose queue is nobody, or none but those that gave up.
@@ -70,14 +56,14 @@ func TestTries(t *testing.T) {
 				for gaveUp := range 3 {
 					d := opens(t, name == "lock.tryfair")
 					for range gaveUp {
-						d.stood(one-1, true)
+						d.Stood(one-1, true)
 					}
 					d.sets(x)
 					want, then := tried(x, one, holds)
-					before := d.cells(1, d.a.Len())
-					d.is(d.does(one, name, d.object, holds), want.v, want.marks...)
+					before := d.All()
+					d.Is(d.Does(one, name, d.Object, holds), want.V, want.Marks...)
 					d.at(then)
-					d.only(before)
+					d.Only(before, 2, 3)
 				}
 			}
 		}
@@ -94,18 +80,18 @@ func TestTriesWithOthersInTheQueue(t *testing.T) {
 			for _, name := range []string{"lock.try", "lock.tryfair"} {
 				d := opens(t, name == "lock.tryfair")
 				for _, thread := range q.threads {
-					d.stood(0, true)
-					d.stood(thread, false)
+					d.Stood(0, true)
+					d.Stood(thread, false)
 				}
 				d.sets(x)
 				want, then := tried(x, one, 4)
 				if q.ahead && x.owner == 0 && name == "lock.tryfair" {
 					want, then = came{}, x
 				}
-				before := d.cells(1, d.a.Len())
-				d.is(d.does(one, name, d.object, 4), want.v, want.marks...)
+				before := d.All()
+				d.Is(d.Does(one, name, d.Object, 4), want.V, want.Marks...)
 				d.at(then)
-				d.only(before)
+				d.Only(before, 2, 3)
 			}
 		}
 	}
@@ -118,10 +104,10 @@ func TestFree(t *testing.T) {
 			d := opens(t, fair)
 			d.sets(x)
 			want, then := freed(x, one)
-			before := d.cells(1, d.a.Len())
-			d.is(d.does(one, "lock.free", d.object), want.v, want.marks...)
+			before := d.All()
+			d.Is(d.Does(one, "lock.free", d.Object), want.V, want.Marks...)
 			d.at(then)
-			d.only(before)
+			d.Only(before, 2, 3)
 		}
 	}
 }
@@ -131,12 +117,12 @@ func TestEachThread(t *testing.T) {
 	for i := range api.MaxThreads {
 		for k := range api.MaxThreads {
 			d := opens(t, false)
-			d.is(d.does(i, "lock.try", d.object, 2), 1, note(api.MkTake, 2))
+			d.Is(d.Does(i, "lock.try", d.Object, 2), 1, note(api.MkTake, 2))
 			want, then := tried(stand{int64(i + 1), 2}, k, 1)
-			d.is(d.does(k, "lock.try", d.object, 1), want.v, want.marks...)
+			d.Is(d.Does(k, "lock.try", d.Object, 1), want.V, want.Marks...)
 			d.at(then)
 			want, then = freed(then, k)
-			d.is(d.does(k, "lock.free", d.object), want.v, want.marks...)
+			d.Is(d.Does(k, "lock.free", d.Object), want.V, want.Marks...)
 			d.at(then)
 		}
 	}

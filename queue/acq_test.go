@@ -20,6 +20,7 @@ var (
 	toUnread  = api.Op{Kind: api.OpUnread}
 	toWrite   = api.Op{Kind: api.OpWrite, Wait: forever}
 	toUnwrite = api.Op{Kind: api.OpUnwrite}
+	toDrain   = api.Op{Kind: api.OpDrain}
 	toAwait   = api.Op{Kind: api.OpAwait, Wait: forever}
 	toDown    = api.Op{Kind: api.OpDown}
 	toWait    = api.Op{Kind: api.OpWait, Wait: forever}
@@ -42,6 +43,9 @@ func breaks(o api.Op) api.Op {
 
 // toAcquire is to ask for so many permits.
 func toAcquire(n int) api.Op { return api.Op{Kind: api.OpAcquire, N: n, Wait: forever} }
+
+// toTrySome is to try for so many.
+func toTrySome(n int) api.Op { return api.Op{Kind: api.OpTrySome, N: n} }
 
 // toRelease is to give so many.
 func toRelease(n int) api.Op { return api.Op{Kind: api.OpRelease, N: n} }

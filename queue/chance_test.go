@@ -50,7 +50,7 @@ func (r *run) picks(t *testing.T, c *rand.Rand, n int) {
 // kinds are calls of each kind of object.
 var kinds = map[int][]int{
 	api.Lock:  {api.OpLock, api.OpLock, api.OpTry, api.OpUnlock, api.OpUnlock, api.OpUnlock, api.OpWait, api.OpSignal},
-	api.Sema:  {api.OpAcquire, api.OpRelease},
+	api.Sema:  {api.OpAcquire, api.OpAcquire, api.OpAcquire, api.OpTrySome, api.OpRelease, api.OpRelease, api.OpRelease, api.OpDrain},
 	api.Latch: {api.OpAwait, api.OpDown},
 	api.RW:    {api.OpRead, api.OpRead, api.OpUnread, api.OpUnread, api.OpWrite, api.OpUnwrite},
 }
@@ -61,7 +61,7 @@ func call(c *rand.Rand, objects []api.Object) api.Op {
 	l := kinds[objects[at].Kind]
 	o := api.Op{Kind: l[c.Intn(len(l))], Obj: at}
 	switch o.Kind {
-	case api.OpAcquire:
+	case api.OpAcquire, api.OpTrySome:
 		o.N = 1 + c.Intn(3)
 	case api.OpRelease:
 		o.N = 1 + c.Intn(2)
@@ -81,6 +81,9 @@ func TestByChance(t *testing.T) {
 			objects[i] = api.Object{Kind: 1 + c.Intn(4)}
 			if objects[i].Kind == api.Sema || objects[i].Kind == api.Latch {
 				objects[i].N = c.Intn(4)
+			}
+			if objects[i].Kind == api.Sema && c.Intn(4) == 0 {
+				objects[i].N = api.MaxCount - c.Intn(4)
 			}
 			objects[i].Fair = objects[i].Kind != api.Latch && c.Intn(2) == 0
 		}
@@ -103,24 +106,33 @@ func TestByChance(t *testing.T) {
 			}
 		}
 	}
-	for _, v := range []int{api.Good, api.Bad, api.Broken, api.Late, api.Monitor} {
-		if results[v] < 500 {
+	for _, v := range []int{api.Good, api.Bad, api.Broken, api.Late, api.Monitor, api.Over} {
+		if results[v] < 100 {
 			t.Errorf("%d calls that came to %d tell too little", results[v], v)
 		}
 	}
 }
 
-// Threads that lock and unlock come through, whatever came ahead, in the turns that the document has for it (T5).
+// Threads that lock and unlock, or ask for permits and give them back, come through, whatever came ahead, in the turns that the document has for it (T5).
 func TestTurns(t *testing.T) {
 	c := rand.New(rand.NewSource(5))
-	for _, x := range []struct{ threads, times, most int }{{2, 4, 1500}, {4, 2, 800}} {
+	for _, x := range []struct {
+		o                    api.Object
+		l                    []api.Op
+		threads, times, most int
+	}{
+		{aLock, calls(toLock, toUnlock), 2, 4, 1500},
+		{aLock, calls(toLock, toUnlock), 4, 2, 800},
+		{aSema(2), calls(toAcquire(2), toRelease(2)), 4, 1, 500},
+		{aSema(3), calls(toAcquire(1), toAcquire(1), toRelease(2)), 2, 1, 500},
+	} {
 		longest := 0
 		for k := range 600 {
-			o := aLock
+			o := x.o
 			o.Fair = k%2 == 0
 			programs := make([][]api.Op, x.threads)
 			for i := range programs {
-				programs[i] = slices.Repeat([]api.Op{toLock, toUnlock}, x.times)
+				programs[i] = slices.Repeat(x.l, x.times)
 			}
 			r := begin(t, []api.Object{o}, programs...)
 			r.picks(t, c, c.Intn(300))
@@ -132,6 +144,6 @@ func TestTurns(t *testing.T) {
 			}
 			r.over(t)
 		}
-		t.Logf("%d threads, %d times: %d turns at most", x.threads, x.times, longest)
+		t.Logf("%d threads, %d times %v: %d turns at most", x.threads, x.times, x.l, longest)
 	}
 }

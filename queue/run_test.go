@@ -16,11 +16,12 @@ import (
 	"thole/permit"
 	"thole/queue"
 	"thole/replay"
+	"thole/sema"
 )
 
 // entries are where calls begin, by their kinds.
 var entries = map[int]string{
-	api.OpLock: "op.lock", api.OpTry: "op.try", api.OpUnlock: "op.unlock", api.OpAcquire: "op.acquire", api.OpRelease: "op.release", api.OpAwait: "op.await", api.OpDown: "op.down",
+	api.OpLock: "op.lock", api.OpTry: "op.try", api.OpUnlock: "op.unlock", api.OpAcquire: "op.acquire", api.OpTrySome: "op.trysome", api.OpRelease: "op.release", api.OpDrain: "op.drain", api.OpAwait: "op.await", api.OpDown: "op.down",
 	api.OpRead: "op.read", api.OpUnread: "op.unread", api.OpWrite: "op.write", api.OpUnwrite: "op.unwrite", api.OpWait: "op.wait", api.OpSignal: "op.signal",
 }
 
@@ -53,7 +54,7 @@ type run struct {
 // begin is a run of a script, nothing of which is done.
 func begin(t *testing.T, objects []api.Object, programs ...[]api.Op) *run {
 	t.Helper()
-	code, labels, err := asm.Assemble(queue.Code(), lock.Code(), failed, semaTries, rwTries, condTries)
+	code, labels, err := asm.Assemble(queue.Code(), lock.Code(), sema.Code(), failed, latchTries, rwTries, condTries)
 	if err != nil {
 		t.Fatal(err)
 	}
@@ -173,7 +174,7 @@ func (r *run) call(t *testing.T, i int) {
 	switch o.Kind {
 	case api.OpLock, api.OpTry:
 		asked = 1
-	case api.OpAcquire:
+	case api.OpAcquire, api.OpTrySome:
 		asked = -asked
 	}
 	if o.Breaks {

@@ -17,25 +17,8 @@ set r0 4
 done r0
 `
 
-// semaTries are those of a Sema and of a Latch: state permits, or the count.
-const semaTries = `
-sema.tryfair:
-mov r6 r0
-mov r7 r1
-call queue.pred
-jne r0 r15 test.no
-mov r0 r6
-mov r1 r7
-sema.try:
-ld r3 r0 2
-add r4 r3 r1
-jlt r4 r15 test.no
-cas r3 r0 2
-jne r5 r14 sema.try
-mark 1 r1
-mov r0 r14
-mov r1 r4
-ret
+// latchTries are those of a Latch: state the count.
+const latchTries = `
 latch.try:
 ld r3 r0 2
 jne r3 r15 test.no
@@ -43,22 +26,6 @@ mark 1 r15
 mov r0 r14
 ret
 
-op.acquire:
-set r14 1
-set r15 0
-mov r4 r14
-call queue.acq
-done r0
-op.release:
-set r14 1
-set r15 0
-ld r3 r0 2
-add r4 r3 r1
-cas r3 r0 2
-jne r5 r14 op.release
-mark 3 r1
-call queue.share
-done r15
 op.await:
 set r14 1
 set r15 0

@@ -36,6 +36,7 @@ func through(t *testing.T, l []walked) {
 // Two or three threads whose calls are on together, from the beginning on.
 func TestTogether(t *testing.T) {
 	late, pair, tried := within(1, toLock), calls(toLock, toUnlock), calls(toTry, toUnlock)
+	taken := calls(toAcquire(1), toRelease(1))
 	through(t, []walked{
 		{"lock", aLock, nil, outside{breaks: 1, wakes: 2}, [][]api.Op{pair, pair}},
 		{"lock twice", aLock, nil, outside{}, [][]api.Op{{toLock, toLock, toUnlock, toUnlock}, {toLock, toUnlock, toLock, toUnlock}}},
@@ -51,6 +52,12 @@ func TestTogether(t *testing.T) {
 		{"read or write", aRW, nil, outside{1, 1, 0}, [][]api.Op{{breaks(within(1, toRead)), toUnread}, {toWrite, toUnwrite}}},
 		{"write or read", fair(aRW), nil, outside{1, 1, 0}, [][]api.Op{{toRead, toUnread}, {within(1, toWrite), toUnwrite}}},
 		{"permits", aSema(0), nil, outside{ticks: 1}, [][]api.Op{{within(1, toAcquire(1))}, {toAcquire(1)}, {toRelease(1)}}},
+		{"fair permits", fair(aSema(1)), nil, outside{wakes: 1}, [][]api.Op{taken, taken}},
+		{"fair permits or try", fair(aSema(1)), nil, outside{}, [][]api.Op{taken, taken, {toTrySome(1)}}},
+		{"permits late or broken", aSema(1), nil, outside{1, 1, 1}, [][]api.Op{taken, {breaks(within(1, toAcquire(1))), toRelease(1)}}},
+		{"tries of permits", aSema(2), nil, outside{}, [][]api.Op{{toTrySome(1), toRelease(1)}, {toTrySome(2), toRelease(2)}, {toTrySome(2), toTrySome(1)}}},
+		{"some or all", aSema(2), nil, outside{}, [][]api.Op{{toTrySome(2), toRelease(2)}, {toDrain, toRelease(1)}, taken}},
+		{"too many", aSema(api.MaxCount - 1), nil, outside{}, [][]api.Op{{toRelease(1), toRelease(1)}, {toRelease(2), toDrain}, {toRelease(1), toTrySome(api.MaxCount)}}},
 		{"latch", api.Object{Kind: api.Latch, N: 2}, nil, outside{ticks: 1}, [][]api.Op{{within(1, toAwait)}, {toAwait}, {toDown, toDown}}},
 	})
 }
@@ -77,6 +84,11 @@ func TestInTheQueue(t *testing.T) {
 		{"two that release", aSema(0), []int{0, 1}, outside{}, [][]api.Op{{toAcquire(1)}, {toAcquire(1)}, {toRelease(1)}, {toRelease(1)}}},
 		{"two that release, one late", aSema(0), []int{0, 1}, outside{ticks: 1}, [][]api.Op{{within(1, toAcquire(1))}, {toAcquire(1)}, {toRelease(1)}, {toRelease(1)}}},
 		{"two that release, one broken", fair(aSema(0)), []int{0, 1}, outside{breaks: 1}, [][]api.Op{{breaks(toAcquire(1))}, {toAcquire(2)}, {toRelease(1)}, {toRelease(2)}}},
+		{"first lacks some", aSema(1), []int{0, 1}, outside{ticks: 1}, [][]api.Op{{within(1, toAcquire(3))}, {toAcquire(2)}, {toRelease(1)}, {toRelease(1)}}},
+		{"fair, first lacks some", fair(aSema(1)), []int{0, 1}, outside{ticks: 1}, [][]api.Op{{within(1, toAcquire(3))}, {toAcquire(1)}, {toRelease(1)}, {toAcquire(1)}}},
+		{"enough for all", aSema(0), []int{0, 1, 2}, outside{}, [][]api.Op{{toAcquire(1)}, {toAcquire(2)}, {toAcquire(1)}, {toRelease(4)}}},
+		{"drain by the way", aSema(0), []int{0, 1}, outside{}, [][]api.Op{{toAcquire(1)}, {toAcquire(1)}, {toRelease(1), toDrain}, {toRelease(2)}}},
+		{"fair, try of permits by the way", fair(aSema(0)), []int{0, 1}, outside{}, [][]api.Op{{toAcquire(1)}, {toAcquire(2)}, {toRelease(1), toTrySome(1), toRelease(2)}}},
 		{"latch of three", api.Object{Kind: api.Latch, N: 2}, []int{0, 1, 2}, outside{ticks: 1}, [][]api.Op{{toAwait}, {within(1, toAwait)}, {toAwait}, {toDown}, {toDown}}},
 	})
 }
