@@ -101,17 +101,23 @@ func entry(kind int) string {
 		return "op.release"
 	case api.OpDrain:
 		return "op.drain"
+	case api.OpAwait:
+		return "op.await"
+	case api.OpDown:
+		return "op.down"
 	}
 	return ""
 }
 
-// asked is what a call has in register 1.
-func asked(o api.Op) int64 {
+// asked is what a call has in register 1: that number, where the chapter tells of nothing that is asked for.
+func asked(o api.Op, some int64) int64 {
 	switch o.Kind {
 	case api.OpAcquire, api.OpTrySome:
 		return -int64(o.N)
 	case api.OpRelease:
 		return int64(o.N)
+	case api.OpAwait, api.OpDown:
+		return some
 	}
 	return 1
 }
@@ -128,7 +134,7 @@ func (d *Desk) Calls(thread int, o api.Op) Came {
 func (d *Desk) CallsUntil(thread int, o api.Op, until int64) Came {
 	d.t.Helper()
 	some := []int64{0, 1, -1, 2, 999, math.MinInt64, math.MaxInt64}[len(d.events)%7]
-	regs := append([]int64{d.Object, asked(o), until, bit(o.Breaks)}, odd(some)...)
+	regs := append([]int64{d.Object, asked(o, some), until, bit(o.Breaks)}, odd(some)...)
 	d.on[thread] = micro.Start(asm.Find(d.labels, entry(o.Kind)), regs...)
 	d.s.Programs[thread] = append(d.s.Programs[thread], o)
 	d.tell(api.Event{Kind: api.EvCall, Thread: thread})

@@ -53,6 +53,9 @@ func toRelease(n int) api.Op { return api.Op{Kind: api.OpRelease, N: n} }
 // aSema is one of so many permits.
 func aSema(n int) api.Object { return api.Object{Kind: api.Sema, N: n} }
 
+// aLatch is one of that count.
+func aLatch(n int) api.Object { return api.Object{Kind: api.Latch, N: n} }
+
 // fair is the object, but fair.
 func fair(o api.Object) api.Object {
 	o.Fair = true
@@ -353,7 +356,7 @@ func TestShared(t *testing.T) {
 
 // A latch that opens lets all go on, one behind the other; one that gave up among them, too.
 func TestOpened(t *testing.T) {
-	r := begin(t, []api.Object{{Kind: api.Latch, N: 1}}, []api.Op{toAwait}, []api.Op{within(2, toAwait)}, []api.Op{toAwait}, []api.Op{toDown})
+	r := begin(t, []api.Object{aLatch(1)}, []api.Op{toAwait}, []api.Op{within(2, toAwait)}, []api.Op{toAwait}, []api.Op{toDown})
 	r.alone(t, 0, 1, 2)
 	r.tick(t, 2)
 	r.alone(t, 1)

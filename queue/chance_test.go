@@ -113,7 +113,7 @@ func TestByChance(t *testing.T) {
 	}
 }
 
-// Threads that lock and unlock, or ask for permits and give them back, come through, whatever came ahead, in the turns that the document has for it (T5).
+// Threads that lock and unlock, ask for permits and give them back, or count a latch down and await it, come through, whatever came ahead, in the turns that the document has for it (T5).
 func TestTurns(t *testing.T) {
 	c := rand.New(rand.NewSource(5))
 	for _, x := range []struct {
@@ -125,11 +125,13 @@ func TestTurns(t *testing.T) {
 		{aLock, calls(toLock, toUnlock), 4, 2, 800},
 		{aSema(2), calls(toAcquire(2), toRelease(2)), 4, 1, 500},
 		{aSema(3), calls(toAcquire(1), toAcquire(1), toRelease(2)), 2, 1, 500},
+		{aLatch(4), calls(toDown, toAwait), 4, 1, 500},
+		{aLatch(5), calls(toDown, toDown, toAwait, toDown, toAwait), 3, 1, 500},
 	} {
 		longest := 0
 		for k := range 600 {
 			o := x.o
-			o.Fair = k%2 == 0
+			o.Fair = o.Kind != api.Latch && k%2 == 0
 			programs := make([][]api.Op, x.threads)
 			for i := range programs {
 				programs[i] = slices.Repeat(x.l, x.times)

@@ -10,6 +10,7 @@ import (
 	"thole/asm"
 	"thole/cell"
 	"thole/clock"
+	"thole/latch"
 	"thole/lock"
 	"thole/micro"
 	"thole/model"
@@ -54,7 +55,7 @@ type run struct {
 // begin is a run of a script, nothing of which is done.
 func begin(t *testing.T, objects []api.Object, programs ...[]api.Op) *run {
 	t.Helper()
-	code, labels, err := asm.Assemble(queue.Code(), lock.Code(), sema.Code(), failed, latchTries, rwTries, condTries)
+	code, labels, err := asm.Assemble(queue.Code(), lock.Code(), sema.Code(), latch.Code(), failed, rwTries, condTries)
 	if err != nil {
 		t.Fatal(err)
 	}

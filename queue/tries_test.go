@@ -17,39 +17,6 @@ set r0 4
 done r0
 `
 
-// latchTries are those of a Latch: state the count.
-const latchTries = `
-latch.try:
-ld r3 r0 2
-jne r3 r15 test.no
-mark 1 r15
-mov r0 r14
-ret
-
-op.await:
-set r14 1
-set r15 0
-mov r4 r14
-call queue.acq
-done r0
-op.down:
-set r14 1
-set r15 0
-ld r3 r0 2
-jeq r3 r15 op.down.none
-addi r4 r3 -1
-cas r3 r0 2
-jne r5 r14 op.down
-mark 8 r14
-jne r4 r15 op.down.left
-call queue.share
-op.down.left:
-done r15
-op.down.none:
-mark 8 r15
-done r15
-`
-
 // rwTries are those of a RW: state how often it is read, or 0 less 1 and how often its writer reads.
 const rwTries = `
 rw.trywritefair:

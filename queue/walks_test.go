@@ -58,7 +58,11 @@ func TestTogether(t *testing.T) {
 		{"tries of permits", aSema(2), nil, outside{}, [][]api.Op{{toTrySome(1), toRelease(1)}, {toTrySome(2), toRelease(2)}, {toTrySome(2), toTrySome(1)}}},
 		{"some or all", aSema(2), nil, outside{}, [][]api.Op{{toTrySome(2), toRelease(2)}, {toDrain, toRelease(1)}, taken}},
 		{"too many", aSema(api.MaxCount - 1), nil, outside{}, [][]api.Op{{toRelease(1), toRelease(1)}, {toRelease(2), toDrain}, {toRelease(1), toTrySome(api.MaxCount)}}},
-		{"latch", api.Object{Kind: api.Latch, N: 2}, nil, outside{ticks: 1}, [][]api.Op{{within(1, toAwait)}, {toAwait}, {toDown, toDown}}},
+		{"latch", aLatch(2), nil, outside{ticks: 1}, [][]api.Op{{within(1, toAwait)}, {toAwait}, {toDown, toDown}}},
+		{"latch late or broken", aLatch(1), nil, outside{1, 1, 1}, [][]api.Op{{breaks(within(1, toAwait)), toAwait}, {toDown, toDown}}},
+		{"two downs, one too many", aLatch(1), nil, outside{wakes: 1}, [][]api.Op{{toAwait}, {toDown, toAwait}, {toDown}}},
+		{"downs of three", aLatch(4), nil, outside{}, [][]api.Op{{toDown, toDown, toAwait}, {toDown, toDown}, {toDown}}},
+		{"all down, all await", aLatch(3), nil, outside{}, [][]api.Op{{toDown, toAwait}, {toDown, toAwait}, {toDown, toAwait}}},
 	})
 }
 
@@ -89,6 +93,9 @@ func TestInTheQueue(t *testing.T) {
 		{"enough for all", aSema(0), []int{0, 1, 2}, outside{}, [][]api.Op{{toAcquire(1)}, {toAcquire(2)}, {toAcquire(1)}, {toRelease(4)}}},
 		{"drain by the way", aSema(0), []int{0, 1}, outside{}, [][]api.Op{{toAcquire(1)}, {toAcquire(1)}, {toRelease(1), toDrain}, {toRelease(2)}}},
 		{"fair, try of permits by the way", fair(aSema(0)), []int{0, 1}, outside{}, [][]api.Op{{toAcquire(1)}, {toAcquire(2)}, {toRelease(1), toTrySome(1), toRelease(2)}}},
-		{"latch of three", api.Object{Kind: api.Latch, N: 2}, []int{0, 1, 2}, outside{ticks: 1}, [][]api.Op{{toAwait}, {within(1, toAwait)}, {toAwait}, {toDown}, {toDown}}},
+		{"latch of three", aLatch(2), []int{0, 1, 2}, outside{ticks: 1}, [][]api.Op{{toAwait}, {within(1, toAwait)}, {toAwait}, {toDown}, {toDown}}},
+		{"latch, first one late", aLatch(1), []int{0, 1}, outside{ticks: 1}, [][]api.Op{{within(1, toAwait)}, {toAwait}, {toDown}, {toAwait}}},
+		{"latch, last one broken", aLatch(1), []int{0, 1, 2}, outside{breaks: 1}, [][]api.Op{{toAwait}, {toAwait}, {breaks(toAwait), toAwait}, {toDown, toDown}}},
+		{"latch by the way", aLatch(1), []int{0, 1}, outside{}, [][]api.Op{{toAwait, toDown}, {toAwait}, {toDown}, {within(0, toAwait), toAwait}}},
 	})
 }
